@@ -1,0 +1,1 @@
+"""Ferrynight: things brought over a river by a small boat."""
