@@ -5,14 +5,10 @@ import unittest
 
 from ferrynight.errors import BadQuarrel, BadRoom, BadThing
 from ferrynight.night import Night
+from helper import EVERY_PAIR, SLOWEST, Case, all_groups, things_of
 
 ROWER = (5, True)
 SITTER = (7, False)
-SLOWEST = 10 ** 9
-
-
-def things_of(count):
-    return [(10 + number, number == 0) for number in range(count)]
 
 
 def put_at_places(good, bad):
@@ -23,16 +19,9 @@ def put_at_places(good, bad):
         yield place, changed
 
 
-def all_groups(count):
-    for size in range(count + 1):
-        yield from itertools.combinations(range(count), size)
-
-
-class NightCase(unittest.TestCase):
-    def refused(self, error, things, room, quarrels):
-        with self.assertRaises(error) as caught:
-            Night(things, room, quarrels)
-        self.assertIs(type(caught.exception), error)
+class NightCase(Case):
+    def unmade(self, error, things, room, quarrels):
+        self.refused(error, Night, things, room, quarrels)
 
     def tells(self, night, things, room, quarrels):
         self.assertEqual(night.things(), things)
@@ -128,7 +117,7 @@ class OwnListsTest(NightCase):
         for error, given, room, quarrelling in refusals:
             with self.subTest(error.__name__):
                 things, quarrels = list(given), list(quarrelling)
-                self.refused(error, things, room, quarrels)
+                self.unmade(error, things, room, quarrels)
                 self.assertEqual(things, given)
                 self.assertEqual(quarrels, quarrelling)
 
@@ -162,11 +151,10 @@ class EdgesTest(NightCase):
                     self.made(things_of(count), room, [])
 
     def test_counts_of_quarrels(self):
-        pairs = list(itertools.permutations(range(6), 2))
-        self.assertEqual(len(pairs), 30)
+        self.assertEqual(len(EVERY_PAIR), 30)
         for count in (0, 1, 29, 30):
             with self.subTest(count):
-                self.made(things_of(6), 2, [(one, other, -1) for one, other in pairs[:count]])
+                self.made(things_of(6), 2, EVERY_PAIR[:count])
 
     def test_thirty_quarrels_alike(self):
         self.made(things_of(2), 2, [(0, 1, -1)] * 30)
@@ -188,37 +176,37 @@ class RefusalsTest(NightCase):
     def test_too_few_or_too_many_things(self):
         for count in (0, 7, 8, 20):
             with self.subTest(count):
-                self.refused(BadThing, things_of(count), 2, [])
+                self.unmade(BadThing, things_of(count), 2, [])
 
     def test_paces(self):
         for pace in (0, -1, -SLOWEST, SLOWEST + 1, 10 ** 12):
             for count in (1, 3, 6):
                 for place, things in put_at_places(things_of(count), (pace, True)):
                     with self.subTest(pace=pace, count=count, place=place):
-                        self.refused(BadThing, things, 2, [])
+                        self.unmade(BadThing, things, 2, [])
 
     def test_pace_of_one_that_sits(self):
         for pace in (0, SLOWEST + 1):
-            self.refused(BadThing, [ROWER, (pace, False)], 2, [])
+            self.unmade(BadThing, [ROWER, (pace, False)], 2, [])
 
     def test_rooms(self):
         for room in (0, -1, -3, 4, 5, 6, 100):
             for count in (1, 6):
                 with self.subTest(room=room, count=count):
-                    self.refused(BadRoom, things_of(count), room, [])
+                    self.unmade(BadRoom, things_of(count), room, [])
 
     def test_too_many_quarrels(self):
         for count in (31, 32, 60):
             for quarrel in ((0, 1, -1), (1, 2, 0)):
                 with self.subTest(count=count, quarrel=quarrel):
-                    self.refused(BadQuarrel, things_of(3), 2, [quarrel] * count)
+                    self.unmade(BadQuarrel, things_of(3), 2, [quarrel] * count)
 
     def refused_at_each_place(self, bad):
         good = [(0, 1, -1), (1, 2, 3), (3, 0, 2), (2, 1, 0), (0, 2, -1)]
         for length in (1, 5, 30):
             for place, quarrels in put_at_places((good * 6)[:length], bad):
                 with self.subTest(bad=bad, length=length, place=place):
-                    self.refused(BadQuarrel, things_of(4), 2, quarrels)
+                    self.unmade(BadQuarrel, things_of(4), 2, quarrels)
 
     def test_quarrel_of_a_thing_with_itself(self):
         for bad in ((0, 0, -1), (3, 3, -1), (1, 1, 2)):
@@ -240,11 +228,11 @@ class RefusalsTest(NightCase):
     def test_which_things_are_there_hangs_on_their_count(self):
         for count in range(1, 6):
             with self.subTest(count):
-                self.refused(BadQuarrel, things_of(count), 2, [(0, count, -1)])
+                self.unmade(BadQuarrel, things_of(count), 2, [(0, count, -1)])
                 self.made(things_of(count + 1), 2, [(0, count, -1)])
         for count in range(2, 6):
             with self.subTest(count):
-                self.refused(BadQuarrel, things_of(count), 2, [(0, 1, count)])
+                self.unmade(BadQuarrel, things_of(count), 2, [(0, 1, count)])
                 self.made(things_of(count + 1), 2, [(0, 1, count)])
 
 
@@ -260,18 +248,18 @@ class OrderOfRefusalsTest(NightCase):
             for room in self.BAD_ROOMS + [2]:
                 for quarrels in self.BAD_QUARRELS + [[]]:
                     with self.subTest(things=things, room=room, quarrels=quarrels):
-                        self.refused(BadThing, things, room, quarrels)
+                        self.unmade(BadThing, things, room, quarrels)
 
     def test_bad_room_comes_ahead_of_bad_quarrel(self):
         for room in self.BAD_ROOMS:
             for quarrels in self.BAD_QUARRELS:
                 with self.subTest(room=room, quarrels=quarrels):
-                    self.refused(BadRoom, things_of(3), room, quarrels)
+                    self.unmade(BadRoom, things_of(3), room, quarrels)
 
     def test_bad_quarrel_comes_last(self):
         for quarrels in self.BAD_QUARRELS:
             with self.subTest(quarrels=quarrels):
-                self.refused(BadQuarrel, things_of(3), 2, quarrels)
+                self.unmade(BadQuarrel, things_of(3), 2, quarrels)
 
 
 class PeaceTest(NightCase):
@@ -324,8 +312,7 @@ class PeaceTest(NightCase):
         ])
 
     def test_every_pair_of_six_without_a_keeper(self):
-        quarrels = [(one, other, -1) for one, other in itertools.permutations(range(6), 2)]
-        self.peace_but_in(6, quarrels, [group for group in all_groups(6) if len(group) > 1])
+        self.peace_but_in(6, EVERY_PAIR, [group for group in all_groups(6) if len(group) > 1])
 
     def test_each_place_among_thirty_quarrels_counts(self):
         for place in range(30):
